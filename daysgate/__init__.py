@@ -1,0 +1,1 @@
+"""Daysgate: stays in several lands under rules of days."""
