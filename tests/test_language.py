@@ -108,6 +108,42 @@ def faults_of_step(node):
         yield "L6 a value by itself"
 
 
+def is_call(node, names):
+    return isinstance(node, ast.Call) and isinstance(node.func, ast.Name) and node.func.id in names
+
+
+def is_method_call(node, names):
+    return isinstance(node, ast.Call) and isinstance(node.func, ast.Attribute) and node.func.attr in names
+
+
+def is_walked(node, parent):
+    if isinstance(parent, (ast.For, ast.comprehension)):
+        return node is parent.iter
+    if is_call(parent, ["list", "tuple", "dict", "sorted", "sum", "any", "all", "enumerate", "zip"]):
+        return node is parent.args[0] or is_call(parent, ["zip"])
+    if is_call(parent, ["min", "max"]):
+        return len(parent.args) == 1
+    return is_method_call(parent, ["join"]) and isinstance(parent.func.value, ast.Constant)
+
+
+def faults_of_walks(tree):
+    parents = {child: node for node in ast.walk(tree) for child in ast.iter_child_nodes(node)}
+    for node, parent in parents.items():
+        if is_call(node, ["zip", "enumerate", "reversed", "range"]) or is_method_call(node, ["items", "keys", "values"]):
+            if not is_walked(node, parent):
+                yield "L23 not walked on the spot"
+        if is_call(node, ["set", "frozenset"]) or isinstance(node, ast.Set):
+            while isinstance(parent, ast.BinOp):
+                parent = parents[parent]
+            if not isinstance(parent, ast.Compare) and not is_call(parent, ["sorted", "len"]):
+                yield "L24 a set that is kept or walked"
+        if isinstance(node, ast.For):
+            for part in ast.walk(node):
+                changes = is_method_call(part, ["append", "clear", "extend", "insert", "pop", "remove", "reverse"])
+                if changes and ast.dump(part.func.value) == ast.dump(node.iter):
+                    yield "L23 what is walked is changed"
+
+
 class Whole:
     """All files of the package, read."""
 
@@ -197,6 +233,7 @@ class Whole:
                 yield from faults_of_class(node)
             yield from faults_of_value(node)
             yield from faults_of_step(node)
+        yield from faults_of_walks(self.trees[stem])
 
 
 class Language(unittest.TestCase):
