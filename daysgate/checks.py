@@ -1,4 +1,4 @@
-"""What is a whole number, a name, a pair of days, a number written with figures."""
+"""What is a whole number, a name, a list of names, a pair of days, a number written with figures."""
 
 # The greatest day that may be stayed or lifted; spans, leaves and mosts end with the same number.
 GREATEST = 1000000000
@@ -34,6 +34,18 @@ def is_name(thing):
     if not isinstance(thing, str):
         return False
     return 1 <= len(thing) and len(thing) <= LONGEST_NAME and is_made_of(thing, LETTERS)
+
+
+def are_names(things, many):
+    """Whether it is a list of one to so many names, each once."""
+    if not isinstance(things, list) or len(things) < 1 or len(things) > many:
+        return False
+    names = []
+    for thing in things:
+        if not is_name(thing) or thing in names:
+            return False
+        names.append(thing)
+    return True
 
 
 def is_written_number(word):

@@ -3,6 +3,7 @@
 A rule is told here as (kind, lands, most, days): kind "within", "since" or "row", days its span or its leave.
 """
 
+import itertools
 import random
 
 from daysgate.books import Book
@@ -64,6 +65,39 @@ def fault_plainly(rules, papers, stays):
             if sum(counted[number].get(one, 0) for one in range(first, day + 1)) > told[2]:
                 return (day, number, first)
     return None
+
+
+def rows_of(wishes, days):
+    """All rows of so many days, each ahead of those that come behind it."""
+    return itertools.product(list(wishes) + [None], repeat=days)
+
+
+def stays_in(row, first):
+    return [(land, first + place, first + place) for place, land in enumerate(row) if land is not None]
+
+
+def spread_plainly(days):
+    """The spread of single days."""
+    found = []
+    for day in sorted(days):
+        if found and found[-1][1] == day - 1:
+            found[-1] = (found[-1][0], day)
+        else:
+            found.append((day, day))
+    return found
+
+
+def counts_plainly(told, counted, days):
+    firsts = [(day, first_of_window(told, counted, day)) for day in days]
+    return [sum(counted.get(one, 0) for one in range(first, day + 1)) for day, first in firsts]
+
+
+def changed_plainly(rules, papers, number, old, new):
+    told = rules[number]
+    end = max([stay[2] for stay in old + new], default=0) + told[3]
+    days = range(-3, end + 4)
+    one, other = [counts_plainly(told, counted_days(rules, papers, number, stays), days) for stays in (old, new)]
+    return spread_plainly([day for day, here, there in zip(days, one, other) if here != there])
 
 
 class Draw:

@@ -1,6 +1,6 @@
 import unittest
 
-from daysgate.checks import are_days, is_between, is_name, is_whole, is_written_number
+from daysgate.checks import are_days, are_names, is_between, is_name, is_whole, is_written_number
 
 TOP = 10 ** 9
 
@@ -35,6 +35,14 @@ class Names(unittest.TestCase):
             self.assertIs(is_name(name), True)
         for thing in ("", "abcdefghi", "A", "a1", "a b", "\u00e9", None, 1, ["a"], ("a",)):
             self.assertIs(is_name(thing), False)
+
+    def test_lists_of_names(self):
+        for things in (["a"], ["b", "a"], ["a", "b", "abcdefgh"]):
+            self.assertIs(are_names(things, 3), True)
+        for things in (["a", "b"], [], ["A"], [["a"]], ("a",), "a", None):
+            self.assertIs(are_names(things, 1), False)
+        for things in (["a", "a"], ["a", "b", "a"], ["a", None], list("abcd")):
+            self.assertIs(are_names(things, 3), False)
 
 
 if __name__ == "__main__":

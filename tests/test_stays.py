@@ -1,8 +1,10 @@
 import unittest
 
+from daysgate.diary import changed_days
 from daysgate.errors import DayError, NoStay
 from daysgate.limits import first_back, last_day
 from daysgate.meaning import count_by_days, fault_by_days, weight_on
+from daysgate.plans import plan_of, stays_by
 from daysgate.stays import land_on, stays_of
 from daysgate.sums import count_of, fault_of, pieces_of
 from tests.plain import TOP, book_of
@@ -21,6 +23,10 @@ TAKERS = [
     lambda stays: fault_of(BOOK, stays),
     lambda stays: last_day(BOOK, stays, "a", 900),
     lambda stays: first_back(BOOK, stays, "a", 900),
+    lambda stays: plan_of(BOOK, stays, ["a"], 900, 2),
+    lambda stays: stays_by(stays, [(900, "a", [])]),
+    lambda stays: changed_days(BOOK, 0, stays, []),
+    lambda stays: changed_days(BOOK, 0, [], stays),
 ]
 
 NO_NAMES = ["", "abcdefghi", "A", "aB", "a1", "1", "a b", " a", "a\n", "\u00e9", "\uff41", None, True, 1, ["a"], ("a",)]
@@ -152,6 +158,7 @@ class Wrong(Refusing):
         stays = [("a", 0, 20), ("a", 5, 5)]
         for asked in (last_day, first_back):
             self.assertEqual(self.number_of(lambda some: asked(BOOK, some, "A", -1), stays), 1)
+        self.assertEqual(self.number_of(lambda some: plan_of(BOOK, some, [], -1, 3), stays), 1)
 
 
 class HandedIn(unittest.TestCase):
